@@ -1,0 +1,68 @@
+"""Point [4] and the opening of the interface: names, parameters, and where everything is defined."""
+
+import importlib
+import inspect
+import unittest
+
+from tworooms import errors
+
+FUNCTIONS = {
+    "names": {
+        "other_hand": "(hand)", "sign_of": "(hand)", "hand_of": "(sign)", "is_name": "(text)",
+        "is_number": "(value)", "check_number": "(what, value, least, most)", "split_words": "(text)",
+        "join_words": "(lines)", "read_number": "(word)",
+    },
+    "webs": {"write_web": "(web)", "read_web": "(text)"},
+    "boards": {"empty_board": "(web)", "write_board": "(board)", "read_board": "(text)"},
+}
+CLASSES = {
+    "webs": {
+        "Web": {
+            "__init__": "(self, places, ties)", "near": "(self, place)", "tied": "(self, one, two)",
+            "part": "(self, place, within)", "parts": "(self, within)", "border": "(self, within)",
+            "distance": "(self, one, two, within)", "pieces": "(self)", "lone": "(self)", "__len__": "(self)",
+            "__iter__": "(self)", "__contains__": None, "__eq__": None, "places": property, "ties": property,
+        },
+    },
+    "boards": {
+        "Board": {
+            "__init__": "(self, web, signs)", "sign": "(self, place)", "hand_at": "(self, place)",
+            "bearing": "(self, sign)", "put": "(self, place, sign)", "__eq__": None, "__neg__": "(self)",
+            "web": property, "signs": property,
+        },
+    },
+}
+
+
+class TestInterface(unittest.TestCase):
+    def test_functions(self):
+        for file, functions in FUNCTIONS.items():
+            module = importlib.import_module("tworooms." + file)
+            for name, signature in functions.items():
+                found = getattr(module, name)
+                self.assertEqual(str(inspect.signature(found)), signature, name)
+                self.assertEqual(found.__module__, module.__name__, name)
+
+    def test_classes(self):
+        for file, classes in CLASSES.items():
+            module = importlib.import_module("tworooms." + file)
+            for name, methods in classes.items():
+                held = getattr(module, name)
+                self.assertEqual(held.__module__, module.__name__, name)
+                for method, signature in methods.items():
+                    self.check_method(vars(held)[method], signature, name + "." + method)
+
+    def check_method(self, method, signature, name):
+        if signature is property:
+            self.assertIsInstance(method, property, name)
+        elif signature is not None:
+            self.assertEqual(str(inspect.signature(method)), signature, name)
+
+    def test_errors_are_defined_in_their_file(self):
+        for name, value in vars(errors).items():
+            if inspect.isclass(value):
+                self.assertEqual(value.__module__, "tworooms.errors", name)
+
+
+if __name__ == "__main__":
+    unittest.main()

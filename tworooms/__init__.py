@@ -1,0 +1,1 @@
+"""Tworooms: stones on webs, companies that stand, and the rows that take the others."""
