@@ -89,3 +89,85 @@ def plain_border(web, within):
     """The outer border of a set of places."""
     near = plain_near(web)
     return sorted({two for one in within for two in near[one]} - set(within))
+
+
+def plain_signs(board):
+    """The sign of each place, from the text of the signs."""
+    return dict(zip(board.web.places, board.signs))
+
+
+def plain_companies(web, signs, sign):
+    """The companies of the stones with this sign, in ascending order."""
+    return plain_parts(web, [place for place in web.places if signs[place] == sign])
+
+
+def plain_free(web, signs, company):
+    """The free neighbours of a company."""
+    return [place for place in plain_border(web, company) if signs[place] == "."]
+
+
+def plain_closed(web, signs):
+    """The companies of both hands without a free neighbour."""
+    both = plain_companies(web, signs, "d") + plain_companies(web, signs, "l")
+    return sorted(company for company in both if not plain_free(web, signs, company))
+
+
+def plain_lay(web, signs, sign, place):
+    """What point [19] says of a laying: (fault, signs after it, names and places taken off)."""
+    if signs[place] != ".":
+        return "occupied", signs, [], []
+    after = {**signs, place: sign}
+    other = "l" if sign == "d" else "d"
+    gone = [company for company in plain_companies(web, after, other) if not plain_free(web, after, company)]
+    names = [company[0] for company in gone]
+    for stone in sum(gone, []):
+        after[stone] = "."
+    own = [company for company in plain_companies(web, after, sign) if place in company][0]
+    if not plain_free(web, after, own):
+        return "self-taking", signs, names, []
+    return None, after, names, sorted(sum(gone, []))
+
+
+class PlainGame:
+    """A second way to play a game, which keeps every board as a text."""
+
+    def __init__(self, board, first):
+        self.web, self.signs, self.first = board.web, plain_signs(board), first
+        self.deeds, self.stood, self.taken = [], [board.signs], []
+
+    def hand(self):
+        """The hand to move, whether or not the game is over."""
+        hands = ["dark", "light"] if self.first == "dark" else ["light", "dark"]
+        return hands[len(self.deeds) % 2]
+
+    def over(self):
+        return len(self.deeds) == 60 or (len(self.deeds) > 1 and self.deeds[-1] == self.deeds[-2] == "-")
+
+    def look(self, deed):
+        """The fault of a deed, the signs after it and the places taken off."""
+        if self.over():
+            return "over", None, None
+        if deed == "-":
+            return None, self.signs, []
+        fault, after, _, places = plain_lay(self.web, self.signs, self.hand()[0], deed)
+        if fault is None and "".join(after.values()) in self.stood:
+            fault = "comes-back"
+        return fault, after, places
+
+    def after(self, deed):
+        """A new game with one more deed, which is let."""
+        _, signs, places = self.look(deed)
+        game = PlainGame.__new__(PlainGame)
+        game.web, game.signs, game.first = self.web, signs, self.first
+        game.deeds = self.deeds + [deed]
+        game.stood = self.stood + ["".join(signs.values())]
+        game.taken = self.taken + [places]
+        return game
+
+
+def play_on(game, step):
+    """Plays until the game is over, by a rule that gives long games with takings and passes."""
+    while not game.over:
+        deeds = game.open_deeds()
+        game.play(deeds[(len(game) * step) % max(len(deeds) - 1, 1)])
+    return game

@@ -14,6 +14,20 @@ FUNCTIONS = {
     },
     "webs": {"write_web": "(web)", "read_web": "(text)"},
     "boards": {"empty_board": "(web)", "write_board": "(board)", "read_board": "(text)"},
+    "companies": {
+        "company_of": "(board, place)", "name_of": "(board, place)", "company_names": "(board, hand)",
+        "free_neighbours": "(board, place)", "touched_by": "(board, place, hand)", "closed_companies": "(board)",
+        "is_right": "(board)", "check_right": "(board)",
+    },
+    "laying": {
+        "taken_by": "(board, hand, place)", "lay": "(board, hand, place)", "lay_fault": "(board, hand, place)",
+        "let_places": "(board, hand)", "lay_row": "(board, hand, row)",
+    },
+    "records": {
+        "write_record": "(game)", "read_record": "(text)", "is_record": "(text)", "replay": "(board, first, deeds)",
+        "is_game": "(board, first, deeds)", "boards_of": "(game)", "takings_of": "(game)",
+        "common_start": "(one, two)",
+    },
 }
 CLASSES = {
     "webs": {
@@ -29,6 +43,14 @@ CLASSES = {
             "__init__": "(self, web, signs)", "sign": "(self, place)", "hand_at": "(self, place)",
             "bearing": "(self, sign)", "put": "(self, place, sign)", "__eq__": None, "__neg__": "(self)",
             "web": property, "signs": property,
+        },
+    },
+    "games": {
+        "Game": {
+            "__init__": "(self, board, first)", "fault": "(self, deed)", "play": "(self, deed)",
+            "open_deeds": "(self)", "undo": "(self)", "twin": "(self)", "__len__": "(self)", "__iter__": "(self)",
+            "__eq__": None, "board": property, "first_board": property, "first_hand": property, "turn": property,
+            "over": property, "deeds": property, "stood": property,
         },
     },
 }
