@@ -17,6 +17,7 @@ BARRED_STARTS = ("_wall", "_pe_", "_dcw_", "_enum_", "_cm_", "_twin_re_", "_lay_
 METHODS = {"__init__", "__eq__", "__len__", "__iter__", "__contains__", "__neg__"}
 EAGER = {"any", "all", "min", "max", "sum", "sorted"}
 BUILTIN_METHODS = {name for kind in (int, str, bytes, list, tuple, dict, set) for name in dir(kind)}
+CHANGING = set("append clear extend insert pop remove reverse setdefault update add discard".split())
 BARRED_WORDS = re.compile(r"\b(type|typing|enum|Enum|Flag|Generic|Protocol|ABC|namedtuple|NamedTuple)\b")
 
 
@@ -44,6 +45,70 @@ def top_names(tree):
 
 def imports_of(tree):
     return [node for node in ast.walk(tree) if isinstance(node, (ast.ImportFrom, ast.Import))]
+
+
+def shelf_of(node):
+    """The variable or attribute that an expression reads, items of it included; None for anything else."""
+    while isinstance(node, (ast.Subscript, ast.Starred)):
+        node = node.value
+    if isinstance(node, ast.Name):
+        return node.id
+    if isinstance(node, ast.Attribute):
+        return "." + node.attr
+    return None
+
+
+def walked(node):
+    """The shelves that a loop over the expression walks; a copy such as list(..) is none."""
+    if isinstance(node, ast.Call):
+        if isinstance(node.func, ast.Name) and node.func.id in ("enumerate", "zip", "reversed"):
+            return set().union(*[walked(part) for part in node.args])
+        if isinstance(node.func, ast.Attribute) and node.func.attr in ("items", "keys", "values"):
+            return walked(node.func.value)
+        return set()
+    if isinstance(node, ast.IfExp):
+        return walked(node.body) | walked(node.orelse)
+    if isinstance(node, ast.BoolOp):
+        return set().union(*[walked(part) for part in node.values])
+    return {shelf_of(node)} - {None}
+
+
+def changed(node):
+    """The shelves that are changed anywhere in a statement or an expression."""
+    found = set()
+    for part in ast.walk(node):
+        if isinstance(part, ast.Call) and isinstance(part.func, ast.Attribute) and part.func.attr in CHANGING:
+            found.add(shelf_of(part.func.value))
+        elif isinstance(part, ast.Subscript) and not isinstance(part.ctx, ast.Load):
+            found.add(shelf_of(part))
+        elif isinstance(part, ast.AugAssign):
+            found.add(shelf_of(part.target))
+    return found - {None}
+
+
+def with_other_names(shelves, function):
+    """The shelves and each one that a plain assignment in the function lets stand for one of them."""
+    pairs = [(shelf_of(target), shelf) for node in ast.walk(function) if isinstance(node, ast.Assign)
+             for target in node.targets for shelf in walked(node.value)]
+    found = set(shelves)
+    while True:
+        more = {part for pair in pairs if found & set(pair) for part in pair} - found
+        if not more:
+            return found
+        found |= more
+
+
+def loops_that_change_what_they_walk(tree):
+    """The line of each loop or comprehension that changes what it walks, by whatever name."""
+    found = []
+    for function in ast.walk(tree):
+        if isinstance(function, ast.FunctionDef):
+            for node in ast.walk(function):
+                walks = [node] if isinstance(node, ast.For) else getattr(node, "generators", [])
+                shelves = set().union(*[walked(walk.iter) for walk in walks])
+                if with_other_names(shelves, function) & changed(node):
+                    found.append(node.lineno)
+    return found
 
 
 class TestLanguage(unittest.TestCase):
@@ -158,6 +223,19 @@ class TestLanguage(unittest.TestCase):
                     for sign, side in zip(node.ops, node.comparators):
                         if isinstance(sign, (ast.Is, ast.IsNot)):
                             self.assertIn(ast.unparse(side), ("None", "True", "False"), name)
+
+    def test_no_loop_changes_what_it_walks(self):
+        for name, tree in self.trees.items():
+            self.assertEqual(loops_that_change_what_they_walk(tree), [], name)
+
+    def test_such_loops_are_found(self):
+        loops = ["for x in xs: xs.append(x)", "for x in self.xs: other.xs.pop()", "for x in enumerate(xs): xs[0] = x",
+                 "for x in xs:\n  ys.append(x)\n xs = ys", "for x in xs or ys: ys.clear()",
+                 "zs = ys if x else xs\n for x in xs: zs.append(x)", "return [xs.pop() for x in zip(ys, xs)]"]
+        for text in loops:
+            self.assertEqual(len(loops_that_change_what_they_walk(ast.parse("def f():\n " + text))), 1, text)
+        for text in ("for x in list(xs): xs.append(x)", "for x in xs: ys.append(x)", "for x in xs: x = ys.get(x)"):
+            self.assertEqual(loops_that_change_what_they_walk(ast.parse("def f():\n " + text)), [], text)
 
     def test_attributes(self):
         for name, tree in self.trees.items():

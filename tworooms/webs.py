@@ -90,15 +90,15 @@ class Web:
         if start not in inside:
             return {}
         steps = {start: 0}
-        level = [start]
-        while level:
-            further = []
-            for place in level:
-                for beside in self._near[place]:
-                    if beside in inside and beside not in steps:
-                        steps[beside] = steps[place] + 1
-                        further.append(beside)
-            level = further
+        reached = [start]
+        at = 0
+        while at < len(reached):
+            place = reached[at]
+            at += 1
+            for beside in self._near[place]:
+                if beside in inside and beside not in steps:
+                    steps[beside] = steps[place] + 1
+                    reached.append(beside)
         return steps
 
     def __len__(self):
