@@ -38,6 +38,17 @@ def grid_web(rows, columns):
     return Web([name for row in names for name in row], ties)
 
 
+def tree_web(many):
+    """So many places a, b, .., each tied to at most two further ones."""
+    names = "abcdefghijklmnopqrst"[:many]
+    return Web(list(names), [(names[(k - 1) // 2], names[k]) for k in range(1, many)])
+
+
+# A path a-b-c-d-e and a path f-g-h-i-j, not joined, with a further place at every second place of both.
+TWO_COMBS = Web(list("abcdefghij") + ["a1", "c1", "e1", "f1", "h1", "j1"],
+                list(zip("abcd", "bcde")) + list(zip("fghi", "ghij")) + [(name, name + "1") for name in "acefhj"])
+
+
 def all_webs(names):
     """Each web with exactly these places."""
     pairs = list(itertools.combinations(names, 2))
@@ -49,6 +60,44 @@ def all_boards(web):
     """Each board on the web, right or not."""
     for signs in itertools.product(".dl", repeat=len(web.places)):
         yield Board(web, "".join(signs))
+
+
+def right_boards(web):
+    """Each right board on the web."""
+    for board in all_boards(web):
+        if not plain_closed(web, plain_signs(board)):
+            yield board
+
+
+def drawn_boards(web, many, bag="....ddddll"):
+    """So many right boards, their signs drawn out of the bag by a fixed rule."""
+    number, found = 1, []
+    while len(found) < many:
+        signs = ""
+        for _ in web.places:
+            number = (number * 1103515245 + 12345) % 2 ** 31
+            signs += bag[(number >> 16) % len(bag)]
+        if not plain_closed(web, plain_signs(Board(web, signs))):
+            found.append(Board(web, signs))
+    return found
+
+
+def boards_to_compare():
+    """The right boards on all webs of three places, on some of four and five, and some on larger webs."""
+    star = Web("abcde", [("a", "e"), ("b", "e"), ("c", "e"), ("d", "e")])
+    webs = list(all_webs("abc")) + [path_web("abcd"), ring_web("abcd"), path_web("abcde"), star,
+                                    Web("abcd", [("a", "b"), ("a", "c"), ("a", "d"), ("b", "c")])]
+    for web in webs:
+        yield from right_boards(web)
+    for web, bag in ((path_web("abcdefghi"), "...dddl"), (ring_web("abcdefghij"), "...ddddddl"),
+                     (grid_web(3, 4), "...ddddddl"), (tree_web(15), "....ddddll"), (tree_web(15), "...ddddddl"),
+                     (TWO_COMBS, "....ddddll")):
+        yield from drawn_boards(web, 40, bag)
+
+
+def other(hand):
+    """The other hand."""
+    return "light" if hand == "dark" else "dark"
 
 
 def subsets(names):
@@ -126,6 +175,36 @@ def plain_lay(web, signs, sign, place):
     if not plain_free(web, after, own):
         return "self-taking", signs, names, []
     return None, after, names, sorted(sum(gone, []))
+
+
+class PlainRooms:
+    """A second way to find the companies and rooms of a hand, and which of them border and own each other."""
+
+    def __init__(self, board, hand):
+        web, signs, near = board.web, plain_signs(board), plain_near(board.web)
+        self.companies = {part[0]: part for part in plain_companies(web, signs, hand[0])}
+        rooms = plain_parts(web, [place for place in web.places if signs[place] != hand[0]])
+        self.rooms = {part[0]: part for part in rooms}
+        self.border, self.own = {}, {name: [] for name in self.companies}
+        for room, places in self.rooms.items():
+            self.border[room] = [name for name, stones in self.companies.items()
+                                 if any(near[place] & set(stones) for place in places)]
+            for name, stones in self.companies.items():
+                if all(near[place] & set(stones) for place in places if signs[place] == "."):
+                    self.own[name].append(room)
+
+    def is_good(self, family):
+        """Whether the companies are a good family."""
+        closed = {room for room in self.rooms if set(self.border[room]) <= set(family)}
+        return all(len(closed & set(self.own[name])) >= 2 for name in family)
+
+    def families(self):
+        """All good families, as tuples."""
+        return [family for family in subsets(list(self.companies)) if self.is_good(family)]
+
+    def standing(self):
+        """The names of the standing companies: the union of all good families."""
+        return sorted(set().union(*self.families()))
 
 
 class PlainGame:

@@ -28,6 +28,21 @@ FUNCTIONS = {
         "is_game": "(board, first, deeds)", "boards_of": "(game)", "takings_of": "(game)",
         "common_start": "(one, two)",
     },
+    "branches": {"write_branches": "(branches)", "read_branches": "(text)"},
+    "rooms": {
+        "rooms_of": "(board, hand)", "room_of": "(board, hand, place)", "room_border": "(board, hand, place)",
+        "owns": "(board, place, room)",
+    },
+    "rounds": {
+        "rounds_of": "(board, hand)", "is_log": "(board, hand, log)", "standing": "(board, hand)",
+        "standing_both": "(board)", "stands": "(board, place)", "out_order": "(board, hand)",
+        "kept_room": "(board, place)", "ranks": "(board, hand)", "is_good_family": "(board, hand, names)",
+        "standing_plain": "(board, hand)",
+    },
+    "papers": {
+        "stand_paper": "(board, hand)", "narrow_paper": "(board, place)", "is_stand_paper": "(board, hand, rows)",
+        "is_paper_for": "(board, place, rows)", "paper_rooms": "(rows)",
+    },
 }
 CLASSES = {
     "webs": {
@@ -51,6 +66,22 @@ CLASSES = {
             "open_deeds": "(self)", "undo": "(self)", "twin": "(self)", "__len__": "(self)", "__iter__": "(self)",
             "__eq__": None, "board": property, "first_board": property, "first_hand": property, "turn": property,
             "over": property, "deeds": property, "stood": property,
+        },
+    },
+    "branches": {
+        "Branches": {
+            "__init__": "(self, board, first)", "grow": "(self, node, deed)", "parent": "(self, node)",
+            "deed": "(self, node)", "children": "(self, node)", "path": "(self, node)", "game_at": "(self, node)",
+            "leaves": "(self)", "meeting": "(self, one, two)", "__len__": "(self)", "__contains__": None,
+            "__eq__": None, "first_board": property, "first_hand": property,
+        },
+    },
+    "rooms": {
+        "RoomTable": {
+            "__init__": "(self, board, hand)", "room_places": "(self, room)", "company_places": "(self, company)",
+            "border_of": "(self, room)", "own_rooms": "(self, company)", "own_companies": "(self, room)",
+            "rooms_at": "(self, company)", "__len__": "(self)", "__iter__": "(self)", "board": property,
+            "companies": property, "rooms": property,
         },
     },
 }

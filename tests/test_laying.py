@@ -3,8 +3,7 @@
 import itertools
 import unittest
 
-from helper import (Case, all_boards, all_webs, grid_web, path_web, plain_closed, plain_lay, plain_parts, plain_signs,
-                    ring_web)
+from helper import Case, boards_to_compare, path_web, plain_lay, plain_parts, plain_signs
 from tworooms.boards import Board
 from tworooms.companies import is_right
 from tworooms.errors import BadDeed, NoHand, NoPlace, NotRight, Occupied, SelfTaking
@@ -18,23 +17,9 @@ NO_HANDS = ["", "Dark", "d", "both", "a"]
 NO_PLACES = ["z", "", "-", "A", "ab"]
 
 
-def right_boards_to_compare():
-    """The right boards on all webs of three places and on some of four and more."""
-    webs = list(all_webs("abc")) + [path_web("abcd"), ring_web("abcd"), path_web("abcde"),
-                                    Web("abcd", [("a", "b"), ("a", "c"), ("a", "d"), ("b", "c")]), STAR]
-    for web in webs:
-        for board in all_boards(web):
-            if not plain_closed(web, plain_signs(board)):
-                yield board
-    for signs in ("ddl.ld.lldd.", "d.d.d.d.d.d.", "llll.ddd....", "dl.ldldldld."):
-        board = Board(grid_web(3, 4), signs)
-        if not plain_closed(board.web, plain_signs(board)):
-            yield board
-
-
 class TestLaying(Case):
     def test_all_layings_are_as_the_point_says(self):
-        for board in right_boards_to_compare():
+        for board in boards_to_compare():
             web, signs, before = board.web, plain_signs(board), board.signs
             for hand in ("dark", "light"):
                 let = []
@@ -62,7 +47,7 @@ class TestLaying(Case):
         self.assertIs(is_right(after), True)
 
     def test_point_21(self):
-        for board in right_boards_to_compare():
+        for board in boards_to_compare():
             for hand, other in (("dark", "light"), ("light", "dark")):
                 outside = [place for place in board.web.places if board.sign(place) != other[0]]
                 for room in plain_parts(board.web, outside):
@@ -148,7 +133,7 @@ class TestLaying(Case):
 
 class TestRows(Case):
     def test_rows_are_layings_one_after_another(self):
-        for board in itertools.islice(right_boards_to_compare(), 0, None, 3):
+        for board in itertools.islice(boards_to_compare(), 0, None, 3):
             for row in itertools.product(board.web.places, repeat=2):
                 signs, refused = plain_signs(board), None
                 for at, place in enumerate(row):

@@ -1,7 +1,7 @@
 """Companies: joined stones of one hand, what touches them, and right boards."""
 
-from tworooms.errors import NoStone, NotRight
-from tworooms.names import DARK, FREE, LIGHT, sign_of
+from tworooms.errors import NoPlace, NoStone, NotRight
+from tworooms.names import DARK, FREE, LIGHT, check_hand, sign_of
 
 
 def company_of(board, place):
@@ -54,3 +54,20 @@ def check_right(board):
     closed = closed_companies(board)
     if closed:
         raise NotRight(closed[0])
+
+
+def check_place_for(board, hand, place):
+    """Refuses what is no hand, no place of the web or no right board."""
+    check_hand(hand)
+    if place not in board.web:
+        raise NoPlace(place)
+    check_right(board)
+
+
+def check_stone(board, place):
+    """Refuses what is no place of the web, no right board or a place without a stone."""
+    if place not in board.web:
+        raise NoPlace(place)
+    check_right(board)
+    if board.sign(place) == FREE:
+        raise NoStone(place)

@@ -1,13 +1,13 @@
 """Laying a stone on a right board: what is taken off, and what is refused."""
 
-from tworooms.companies import check_right, company_of, free_neighbours, touched_by
+from tworooms.companies import check_place_for, check_right, company_of, free_neighbours, touched_by
 from tworooms.errors import BadDeed, NoPlace, Occupied, SelfTaking
 from tworooms.names import FREE, check_hand, other_hand, sign_of
 
 
 def taken_by(board, hand, place):
     """The names of the companies that a laying on the place takes off, ascending."""
-    check_laying(board, hand, place)
+    check_place_for(board, hand, place)
     if board.sign(place) != FREE:
         raise Occupied(place)
     return last_free_of(board, other_hand(hand), place)
@@ -25,7 +25,7 @@ def lay(board, hand, place):
 
 def lay_fault(board, hand, place):
     """The reason for which the laying is refused, or None if it is let."""
-    check_laying(board, hand, place)
+    check_place_for(board, hand, place)
     return fault_on_right(board, hand, place)
 
 
@@ -50,14 +50,6 @@ def lay_row(board, hand, row):
             raise BadDeed(at, fault)
         now, _ = after_laying(now, hand, place)
     return now
-
-
-def check_laying(board, hand, place):
-    """Refuses what is no hand, no place of the web or no right board."""
-    check_hand(hand)
-    if place not in board.web:
-        raise NoPlace(place)
-    check_right(board)
 
 
 def last_free_of(board, hand, place):
