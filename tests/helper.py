@@ -206,6 +206,43 @@ class PlainRooms:
         """The names of the standing companies: the union of all good families."""
         return sorted(set().union(*self.families()))
 
+    def rounds(self):
+        """The rounds of point [36], found with sets."""
+        companies, rooms, rounds = set(self.companies), set(self.rooms), []
+        while True:
+            out = {name for name in companies if len(rooms & set(self.own[name])) < 2}
+            if not out:
+                return rounds
+            gone = {room for room in rooms if out & set(self.border[room])}
+            rounds.append((sorted(out), sorted(gone)))
+            companies, rooms = companies - out, rooms - gone
+
+    def kept(self):
+        """The kept room, or None, of each company that does not stand, in the order out."""
+        kept, rooms = {}, set(self.rooms)
+        for out, gone in self.rounds():
+            kept.update({name: min(rooms & set(self.own[name]), default=None) for name in out})
+            rooms -= set(gone)
+        return kept
+
+
+def plain_reached(board, hand):
+    """The least of the shortest rows of the other hand that lead to the signs of each reached board."""
+    level = {board.signs: ()}
+    found = dict(level)
+    while level:
+        further = {}
+        for text, row in level.items():
+            signs = dict(zip(board.web.places, text))
+            for place in board.web.places:
+                fault, after, _, _ = plain_lay(board.web, signs, other(hand)[0], place)
+                if fault is None:
+                    after = "".join(after.values())
+                    further[after] = min(further.get(after, row + (place,)), row + (place,))
+        level = {text: row for text, row in further.items() if text not in found}
+        found.update(level)
+    return found
+
 
 class PlainGame:
     """A second way to play a game, which keeps every board as a text."""
@@ -232,6 +269,10 @@ class PlainGame:
         if fault is None and "".join(after.values()) in self.stood:
             fault = "comes-back"
         return fault, after, places
+
+    def open_deeds(self):
+        """The let deeds, in order."""
+        return [deed for deed in self.web.places + ["-"] if self.look(deed)[0] is None]
 
     def after(self, deed):
         """A new game with one more deed, which is let."""

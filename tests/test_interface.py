@@ -43,6 +43,27 @@ FUNCTIONS = {
         "stand_paper": "(board, hand)", "narrow_paper": "(board, place)", "is_stand_paper": "(board, hand, rows)",
         "is_paper_for": "(board, place, rows)", "paper_rooms": "(rows)",
     },
+    "takings": {
+        "taking_steps": "(board, place)", "taking_row": "(board, place)", "taking_game": "(board, place)",
+        "is_taking_row": "(board, place, row)", "taking_all": "(board, hand)", "reached_boards": "(board, hand)",
+        "least_taking": "(board, place)", "decide": "(board, place)", "is_decision": "(board, place, word, paper)",
+    },
+    "changes": {
+        "standing_places": "(board, hand)", "change_by": "(board, hand, place)", "spoiling_places": "(board, hand)",
+        "strengthening_places": "(board, hand)", "change_papers": "(board, hand, place)",
+        "standing_along": "(game, hand)",
+    },
+    "counts": {
+        "free_parts": "(board)", "reach_of": "(board, place)", "territory": "(board)", "score": "(board)",
+        "held_rooms": "(board, hand)", "sure_places": "(board, hand)", "sure_score": "(board)",
+        "sure_winner": "(board)", "report": "(game)", "is_sure": "(board, hand, place, rows)",
+    },
+    "trees": {
+        "is_taken_tree": "(board, place, tree, *, first=None, depth, shield=None)",
+        "is_kept_tree": "(board, place, tree, *, first=None, depth, shield=None)",
+        "is_escape_tree": "(board, place, tree, *, depth)", "write_tree": "(tree)", "read_tree": "(text)",
+        "tree_pairs": "(tree)", "tree_depth": "(tree)",
+    },
 }
 CLASSES = {
     "webs": {

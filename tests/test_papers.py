@@ -3,7 +3,7 @@
 import itertools
 import unittest
 
-from helper import Case, PlainRooms, TWO_COMBS, boards_to_compare, other, path_web, plain_lay, plain_signs
+from helper import Case, PlainRooms, TWO_COMBS, boards_to_compare, path_web, plain_reached
 from tworooms.boards import Board, empty_board
 from tworooms.errors import Falls, NoHand, NoPlace, NoStone, NotRight
 from tworooms.papers import is_paper_for, is_stand_paper, narrow_paper, paper_rooms, stand_paper
@@ -80,7 +80,7 @@ class TestPapers(Case):
         self.assertEqual(stand_paper(empty_board(FIVE), "dark"), [])
 
     def test_rooms_that_went_out_are_in_no_row(self):
-        # f goes out and takes the room e with it; d keeps two rooms of its own at d1 and d2.
+        # f goes out and takes the room a with it; d keeps two rooms of its own at d1 and d2.
         web = Web(["a", "d", "d1", "d2", "f", "g", "h"], [("a", "d"), ("a", "f"), ("d", "d1"), ("d", "d2"),
                                                           ("f", "g"), ("g", "h")])
         board = Board(web, ".d..d..")
@@ -96,19 +96,10 @@ class TestPapers(Case):
                     many += 1
                     plain = PlainRooms(board, hand)
                     kept = [place for row in paper for place in plain.companies[row[0]]]
-                    self.check_never_taken(board, hand, kept)
+                    for text in plain_reached(board, hand):
+                        signs = dict(zip(board.web.places, text))
+                        self.assertEqual({signs[place] for place in kept}, {hand[0]})
         self.assertGreater(many, 20)
-
-    def check_never_taken(self, board, hand, kept):
-        reached, waiting = {board.signs}, [plain_signs(board)]
-        while waiting:
-            signs = waiting.pop()
-            self.assertTrue(all(signs[place] == hand[0] for place in kept))
-            for place in board.web.places:
-                fault, after, _, _ = plain_lay(board.web, signs, other(hand)[0], place)
-                if fault is None and "".join(after.values()) not in reached:
-                    reached.add("".join(after.values()))
-                    waiting.append(after)
 
 
 class TestGivenPapers(Case):

@@ -18,18 +18,6 @@ HANDS = ("dark", "light")
 LADDER = Board(CHAIN, ".d.d.d...")
 
 
-def plain_rounds(plain):
-    """The rounds of point [36], found with sets."""
-    companies, rooms, rounds = set(plain.companies), set(plain.rooms), []
-    while True:
-        out = {name for name in companies if len(rooms & set(plain.own[name])) < 2}
-        if not out:
-            return rounds
-        gone = {room for room in rooms if out & set(plain.border[room])}
-        rounds.append((sorted(out), sorted(gone)))
-        companies, rooms = companies - out, rooms - gone
-
-
 def plain_logs(plain, companies, rooms):
     """All right logs from the companies and rooms that are alive."""
     weak = sorted(name for name in companies if len(rooms & set(plain.own[name])) < 2)
@@ -118,7 +106,7 @@ class TestRounds(Case):
         for board in boards_to_compare():
             for hand in HANDS:
                 plain = PlainRooms(board, hand)
-                rounds = plain_rounds(plain)
+                rounds = plain.rounds()
                 self.assertEqual(rounds_of(board, hand), rounds)
                 self.assertEqual(out_order(board, hand), [name for out, _ in rounds for name in out])
                 rank_of = {name: 0 for name in plain.companies}
@@ -179,13 +167,9 @@ class TestKeptRoom(Case):
         for board in boards_to_compare():
             for hand in HANDS:
                 plain = PlainRooms(board, hand)
-                alive = set(plain.rooms)
-                for out, gone in plain_rounds(plain):
-                    for name in out:
-                        own = sorted(alive & set(plain.own[name]))
-                        kept[len(own) > 0] += 1
-                        self.assertEqual(kept_room(board, plain.companies[name][-1]), own[0] if own else None)
-                    alive -= set(gone)
+                for name, room in plain.kept().items():
+                    kept[room is not None] += 1
+                    self.assertEqual(kept_room(board, plain.companies[name][-1]), room)
                 for name in plain.standing():
                     place = plain.companies[name][-1]
                     self.refused(Stands(place), kept_room, board, place)
