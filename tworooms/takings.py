@@ -146,12 +146,16 @@ def reached_rows(board, hand):
     while at < len(found):
         now, row = found[at]
         at += 1
-        for place in now.web:
-            if fault_on_right(now, hand, place) is None:
-                after, _ = after_laying(now, hand, place)
-                if after.signs not in seen:
-                    seen[after.signs] = True
-                    found.append((after, row + [place]))
+        for place, after in boards_after(now, hand):
+            if after.signs not in seen:
+                seen[after.signs] = True
+                found.append((after, row + [place]))
         if len(found) > MOST_BOARDS:
             raise TooMany("boards", MOST_BOARDS)
     return found
+
+
+def boards_after(board, hand):
+    """Each place on which a laying of the hand is let, ascending, with the board after the laying."""
+    return [(place, after_laying(board, hand, place)[0]) for place in board.web
+            if fault_on_right(board, hand, place) is None]
