@@ -146,7 +146,7 @@ def reached_rows(board, hand):
     while at < len(found):
         now, row = found[at]
         at += 1
-        for place, after in boards_after(now, hand):
+        for place, after in next_boards(now, hand):
             if after.signs not in seen:
                 seen[after.signs] = True
                 found.append((after, row + [place]))
@@ -155,7 +155,7 @@ def reached_rows(board, hand):
     return found
 
 
-def boards_after(board, hand):
+def next_boards(board, hand):
     """Each place on which a laying of the hand is let, ascending, with the board after the laying."""
     return [(place, after_laying(board, hand, place)[0]) for place in board.web
             if fault_on_right(board, hand, place) is None]
