@@ -226,6 +226,14 @@ class PlainRooms:
         return kept
 
 
+def plain_sure(plain, family):
+    """The places of the companies and of the rooms that the family holds, and the names of these rooms."""
+    held = [room for room in plain.rooms if set(plain.border[room]) <= set(family)
+            and any(room in plain.own[name] for name in family)]
+    return sorted(place for table, names in ((plain.companies, family), (plain.rooms, held))
+                  for name in names for place in table[name]), held
+
+
 def plain_reached(board, hand):
     """The least of the shortest rows of the other hand that lead to the signs of each reached board."""
     level = {board.signs: ()}

@@ -3,12 +3,17 @@
 from helper import PlainGame, other, plain_companies, plain_free
 
 
+class Spent(Exception):
+    """The search looked at more positions than its budget."""
+
+
 class PlainAttack:
     """An attack on a target, with or without a shield, in games that keep their boards as texts."""
 
     def __init__(self, board, target, shield=None):
         self.board, self.target, self.shield = board, target, shield
         self.defender = board.hand_at(target)
+        self.looked, self.budget = 0, float("inf")
 
     def begin(self, first=None):
         return PlainGame(self.board, first or other(self.defender))
@@ -26,23 +31,48 @@ class PlainAttack:
         companies = plain_companies(game.web, game.signs, self.defender[0])
         return plain_free(game.web, game.signs, next(row for row in companies if self.target in row))
 
-    def search(self, game, left):
-        """Point [69] without a budget: (whether it is taken, tree)."""
+    def count(self):
+        """Step 1 of point [69]."""
+        self.looked += 1
+        if self.looked > self.budget:
+            raise Spent
+
+    def answer(self, kind, first, depth, budget=float("inf")):
+        """The answer of points [69], [71] and [73]: verdict, tree, looked."""
+        self.looked, self.budget = 0, budget
+        search = {"attack": self.search, "chase": self.chase, "passing": self.passing}[kind]
+        try:
+            taken, tree = search(self.begin(first), depth)
+        except Spent:
+            return "open", [], budget
+        finally:
+            self.budget = float("inf")
+        kept = "escaped" if kind == "chase" else "kept"
+        return "taken" if taken else kept, tree, self.looked
+
+    def passing(self, game, left):
+        """Point [73]: (whether it is taken, tree)."""
+        return self.search(game, left, passing=True)
+
+    def search(self, game, left, passing=False):
+        """Point [69]: (whether it is taken, tree)."""
+        self.count()
         if game.over() or left == 0:
             return False, []
         mine, rows = self.attacks(game), []
-        for deed in game.open_deeds():
+        for deed in game.open_deeds() if mine or not passing else ["-"]:
             after = game.after(deed)
             if (mine and self.won(after)) or (not mine and self.failed(after)):
                 return mine, [(deed, [])]
-            taken, answer = self.search(after, left - 1)
+            taken, answer = self.search(after, left - 1, passing)
             if taken == mine:
                 return taken, [(deed, answer)]
             rows.append((deed, answer))
         return not mine, rows
 
     def chase(self, game, left):
-        """Point [71] without a budget: (whether it is taken, tree)."""
+        """Point [71]: (whether it is taken, tree)."""
+        self.count()
         if game.over() or left == 0 or (self.attacks(game) and len(self.free(game)) > 2):
             return False, []
         mine, rows = self.attacks(game), []

@@ -4,7 +4,7 @@ import itertools
 import unittest
 
 from helper import (Case, PlainRooms, TWO_COMBS, all_boards, boards_to_compare, drawn_boards, grid_web, other, path_web,
-                    plain_border, plain_parts, plain_signs, play_on, ring_web, subsets, tree_web)
+                    plain_border, plain_parts, plain_signs, plain_sure, play_on, ring_web, subsets, tree_web)
 from tworooms.boards import Board, empty_board
 from tworooms.companies import is_right
 from tworooms.counts import (free_parts, held_rooms, is_sure, reach_of, report, score, sure_places, sure_score,
@@ -33,14 +33,6 @@ def plain_reach(board, place):
     part = next(part for part in plain_parts(board.web, free) if place in part)
     around = {signs[name] for name in plain_border(board.web, part)}
     return [hand for hand in HANDS if hand[0] in around]
-
-
-def plain_sure(plain, family):
-    """The places of the companies and of the rooms that the family holds."""
-    held = [room for room in plain.rooms if set(plain.border[room]) <= set(family)
-            and any(room in plain.own[name] for name in family)]
-    return sorted(place for table, names in ((plain.companies, family), (plain.rooms, held))
-                  for name in names for place in table[name]), held
 
 
 class TestScore(Case):

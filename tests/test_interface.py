@@ -64,6 +64,27 @@ FUNCTIONS = {
         "is_escape_tree": "(board, place, tree, *, depth)", "write_tree": "(tree)", "read_tree": "(text)",
         "tree_pairs": "(tree)", "tree_depth": "(tree)",
     },
+    "search": {
+        "attack": "(board, place, *, first=None, depth=4, budget=200, shield=None)",
+        "chase": "(board, place, *, depth=8, budget=200)",
+        "passing_search": "(board, place, *, depth=5, budget=200)",
+        "attack_all": "(board, hand, *, depth=2, budget=200)",
+    },
+    "races": {
+        "race_value": "(own, other, shared, *, after_pass=False)",
+        "race_best": "(own, other, shared, *, after_pass=False)", "race_deeds": "(own, other, shared)",
+        "race_after": "(own, other, shared, deed)", "race_table": "(most)", "race_line": "(own, other, shared)",
+    },
+    "raceboards": {
+        "race_board": "(own, other, shared)", "race_numbers": "(board, one, two)",
+        "race_place": "(board, one, two, deed)", "race_game": "(own, other, shared)",
+        "race_search": "(own, other, shared, *, budget=400)",
+    },
+    "making": {
+        "least_making": "(board, place, *, most=2)", "least_unmaking": "(board, place, *, most=2)",
+        "is_unmaking_row": "(board, place, row)", "is_making_row": "(board, place, row)", "right_boards": "(web)",
+        "stand_tally": "(web, hand)", "smallest_standing": "(web, hand)",
+    },
 }
 CLASSES = {
     "webs": {

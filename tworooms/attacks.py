@@ -1,9 +1,11 @@
 """What trees and searches share: an attack on a target place, and the games that it is played in."""
 
-from tworooms.companies import check_stone
+from tworooms.companies import check_stone, free_neighbours
 from tworooms.errors import NoPlace, NoStone
 from tworooms.games import Game
 from tworooms.names import MOST_DEPTH, check_hand, check_number, other_hand
+
+MOST_FREE = 2
 
 
 class Attack:
@@ -20,11 +22,6 @@ class Attack:
         """The hand that attacks."""
         return other_hand(self._defender)
 
-    @property
-    def target(self):
-        """The target place."""
-        return self._target
-
     def new_game(self, first):
         """The game that the attack begins with; the attacker is the first hand if none is told."""
         if first is None:
@@ -38,6 +35,16 @@ class Attack:
     def has_failed(self, game):
         """Whether there is a shield and it no longer bears a stone of the attacker."""
         return self._shield is not None and game.board.hand_at(self._shield) != self.attacker
+
+    def chase_deeds(self, game):
+        """The layings that a chase looks at on the attacker's turn, ascending.
+
+        There are none if the company of the target has too many free neighbours.
+        """
+        free = free_neighbours(game.board, self._target)
+        if len(free) > MOST_FREE:
+            return []
+        return [place for place in free if game.fault(place) is None]
 
 
 def attack_on(board, place, first, depth, shield):

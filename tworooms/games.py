@@ -2,7 +2,7 @@
 
 from tworooms.companies import check_right
 from tworooms.errors import ComesBack, GameOver, NoPlace, NothingDone, Occupied, SelfTaking
-from tworooms.laying import after_laying, fault_on_right
+from tworooms.laying import try_laying
 from tworooms.names import MOST_DEEDS, PASS, check_hand, other_hand
 
 
@@ -60,26 +60,13 @@ class Game:
 
     def fault(self, deed):
         """The reason for which the deed is refused now, or None if it is let."""
-        check_deed(self.board.web, deed)
-        if self.over:
-            return "over"
-        if deed == PASS:
-            return None
-        fault = fault_on_right(self.board, self.turn, deed)
-        if fault is not None:
-            return fault
-        after, _ = after_laying(self.board, self.turn, deed)
-        if after.signs in self.stood:
-            return "comes-back"
-        return None
+        fault, _, _ = self._look_at(deed)
+        return fault
 
     def play(self, deed):
         """Makes the deed; the places whose stones it took off, ascending."""
-        refuse(self.fault(deed), deed)
-        after = self.board
-        taken = []
-        if deed != PASS:
-            after, taken = after_laying(self.board, self.turn, deed)
+        fault, after, taken = self._look_at(deed)
+        refuse(fault, deed)
         self._boards.append(after)
         self._deeds.append(deed)
         return taken
@@ -102,6 +89,18 @@ class Game:
         twin._deeds = list(self._deeds)
         twin._boards = list(self._boards)
         return twin
+
+    def _look_at(self, deed):
+        """The fault of the deed, the board after it, and the places whose stones it takes off."""
+        check_deed(self.board.web, deed)
+        if self.over:
+            return "over", self.board, []
+        if deed == PASS:
+            return None, self.board, []
+        fault, after, taken = try_laying(self.board, self.turn, deed)
+        if fault is None and after.signs in [board.signs for board in self._boards]:
+            return "comes-back", self.board, []
+        return fault, after, taken
 
     def __len__(self):
         return len(self._deeds)

@@ -15,12 +15,13 @@ def taken_by(board, hand, place):
 
 def lay(board, hand, place):
     """The board after the laying, and the places whose stones were taken off, ascending."""
-    fault = lay_fault(board, hand, place)
+    check_place_for(board, hand, place)
+    fault, after, taken = try_laying(board, hand, place)
     if fault == "occupied":
         raise Occupied(place)
     if fault == "self-taking":
         raise SelfTaking(place)
-    return after_laying(board, hand, place)
+    return after, taken
 
 
 def lay_fault(board, hand, place):
@@ -45,10 +46,9 @@ def lay_row(board, hand, row):
     check_right(board)
     now = board
     for at, place in enumerate(row):
-        fault = fault_on_right(now, hand, place)
+        fault, now, _ = try_laying(now, hand, place)
         if fault is not None:
             raise BadDeed(at, fault)
-        now, _ = after_laying(now, hand, place)
     return now
 
 
@@ -59,12 +59,21 @@ def last_free_of(board, hand, place):
 
 def fault_on_right(board, hand, place):
     """The fault of a laying on a board that is known to be right."""
+    fault, _, _ = try_laying(board, hand, place)
+    return fault
+
+
+def try_laying(board, hand, place):
+    """The fault of a laying on a right board, the board after it, and the places whose stones it takes off.
+
+    A refused laying leaves the board as it is.
+    """
     if board.sign(place) != FREE:
-        return "occupied"
-    after, _ = after_laying(board, hand, place)
+        return "occupied", board, []
+    after, taken = after_laying(board, hand, place)
     if len(free_neighbours(after, place)) == 0:
-        return "self-taking"
-    return None
+        return "self-taking", board, []
+    return None, after, taken
 
 
 def after_laying(board, hand, place):

@@ -3,7 +3,7 @@
 from tworooms.companies import check_right, check_stone, free_neighbours
 from tworooms.errors import Stands, TooMany
 from tworooms.games import Game
-from tworooms.laying import after_laying, fault_on_right
+from tworooms.laying import after_laying, try_laying
 from tworooms.names import MOST_BOARDS, PASS, check_hand, other_hand
 from tworooms.papers import is_paper_for, narrow_paper
 from tworooms.rooms import RoomTable
@@ -129,9 +129,11 @@ def board_after(board, hand, row):
     """The board after the hand laid on the places of the row, or None if a laying is not let."""
     now = board
     for place in row:
-        if place not in now.web or fault_on_right(now, hand, place) is not None:
+        if place not in now.web:
             return None
-        now, _ = after_laying(now, hand, place)
+        fault, now, _ = try_laying(now, hand, place)
+        if fault is not None:
+            return None
     return now
 
 
@@ -157,5 +159,9 @@ def reached_rows(board, hand):
 
 def next_boards(board, hand):
     """Each place on which a laying of the hand is let, ascending, with the board after the laying."""
-    return [(place, after_laying(board, hand, place)[0]) for place in board.web
-            if fault_on_right(board, hand, place) is None]
+    found = []
+    for place in board.web:
+        fault, after, _ = try_laying(board, hand, place)
+        if fault is None:
+            found.append((place, after))
+    return found

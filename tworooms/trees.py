@@ -1,14 +1,12 @@
 """Trees of deeds: the certificates that an attack wins or does not, and their text form."""
 
 from tworooms.attacks import attack_on, game_after
-from tworooms.companies import free_neighbours
 from tworooms.errors import BadTree
 from tworooms.names import DIGITS, LETTERS, LONGEST_NAME, PASS
 from tworooms.records import is_let
 
 MOST_OPEN = 13
 MOST_PAIRS = 2000
-MOST_FREE = 2
 
 
 def is_taken_tree(board, place, tree, *, first=None, depth, shield=None):
@@ -110,11 +108,8 @@ def is_escape(attack, game, left, tree):
         return len(tree) == 0
     if game.turn != attack.attacker:
         return has_one_let_deed(game, tree) and is_escape_behind(attack, game, left, tree[0])
-    free = free_neighbours(game.board, attack.target)
-    if len(free) > MOST_FREE:
-        return len(tree) == 0
-    let = [place for place in free if is_let(game, place)]
-    return deeds_of(tree) == let and all([is_escape_behind(attack, game, left, pair) for pair in tree])
+    right_deeds = deeds_of(tree) == attack.chase_deeds(game)
+    return right_deeds and all([is_escape_behind(attack, game, left, pair) for pair in tree])
 
 
 def is_escape_behind(attack, game, left, pair):

@@ -200,23 +200,40 @@ def places_in(lines):
     words = words_behind(lines, 1, "places")
     if len(words) == 0:
         raise BadText(1, 2)
-    last = ""
-    for at, word in enumerate(words):
-        if at >= MOST_PLACES or not is_name(word) or word <= last:
-            raise BadText(1, at + 2)
-        last = word
+    at = bad_place_at(words)
+    if at is not None:
+        raise BadText(1, at + 2)
     return words
 
 
 def ties_in(lines, places):
     """The ties of line 2, for the places of line 1."""
-    ties = []
-    for at, word in enumerate(words_behind(lines, 2, "ties")):
+    words = words_behind(lines, 2, "ties")
+    at = bad_tie_at(words, places)
+    if at is not None:
+        raise BadText(2, at + 2)
+    return [tie_in(word, places) for word in words]
+
+
+def bad_place_at(words):
+    """The index of the first word that may not stand there in a row of places, or None."""
+    last = ""
+    for at, word in enumerate(words):
+        if at >= MOST_PLACES or not is_name(word) or word <= last:
+            return at
+        last = word
+    return None
+
+
+def bad_tie_at(words, places):
+    """The index of the first word that may not stand there in a row of ties between the places, or None."""
+    last = ("", "")
+    for at, word in enumerate(words):
         pair = tie_in(word, places)
-        if at >= MOST_TIES or pair is None or (at > 0 and pair <= ties[at - 1]):
-            raise BadText(2, at + 2)
-        ties.append(pair)
-    return ties
+        if at >= MOST_TIES or pair is None or pair <= last:
+            return at
+        last = pair
+    return None
 
 
 def tie_in(word, places):
