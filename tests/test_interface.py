@@ -85,6 +85,26 @@ FUNCTIONS = {
         "is_unmaking_row": "(board, place, row)", "is_making_row": "(board, place, row)", "right_boards": "(web)",
         "stand_tally": "(web, hand)", "smallest_standing": "(web, hand)",
     },
+    "likeness": {
+        "is_likeness": "(one, two, mapping)", "first_likeness": "(one, two)", "likenesses": "(web)",
+        "inverse_map": "(mapping)", "composed": "(first, second)", "lead_board": "(board, two, mapping)",
+        "orbit_of": "(board)", "least_form": "(board)", "leading_likeness": "(one, two)", "orbit_count": "(web)",
+        "lead_row": "(row, mapping)", "lead_game": "(game, two, mapping)",
+        "lead_paper": "(board, hand, rows, two, mapping)",
+    },
+    "joining": {
+        "beside": "(one, two)", "cut_apart": "(board)", "piece_at": "(board, place)", "joined_rows": "(papers)",
+        "cut_rows": "(board, rows, place)", "mirrored_game": "(game)",
+    },
+    "player": {
+        "candidates": "(game)", "choose": "(game)", "choose_sure": "(game)",
+        "play_out": "(game, *, most=20, style='plain')",
+    },
+    "book": {
+        "write_book": "(book)", "read_book": "(text)", "audit": "(text)", "first_difference": "(one, two)",
+        "decision_row": "(book, name, board_name, place)",
+    },
+    "scripts": {"run_line": "(book, line)", "run_script": "(text)"},
 }
 CLASSES = {
     "webs": {
@@ -124,6 +144,14 @@ CLASSES = {
             "border_of": "(self, room)", "own_rooms": "(self, company)", "own_companies": "(self, room)",
             "rooms_at": "(self, company)", "__len__": "(self)", "__iter__": "(self)", "board": property,
             "companies": property, "rooms": property,
+        },
+    },
+    "book": {
+        "Book": {
+            "__init__": "(self)", "enter": "(self, row)", "undo": "(self)", "entries": "(self)",
+            "entry_kind": "(self, name)", "web_at": "(self, name)", "board_at": "(self, name)",
+            "game_of": "(self, name)", "paper_at": "(self, name)", "twin": "(self)", "__len__": "(self)",
+            "__iter__": "(self)", "__contains__": None, "__eq__": None,
         },
     },
 }

@@ -22,7 +22,7 @@ BARRED_WORDS = re.compile(r"\b(type|typing|enum|Enum|Flag|Generic|Protocol|ABC|n
 
 
 def bound_names(tree):
-    """Each name that a file binds: functions, classes, parameters, variables, imports."""
+    """Each name that a file binds: functions, classes, parameters, variables, caught errors, imports."""
     for node in ast.walk(tree):
         if isinstance(node, (ast.FunctionDef, ast.ClassDef)):
             yield node.name
@@ -30,6 +30,8 @@ def bound_names(tree):
             yield node.arg
         elif isinstance(node, ast.Name) and isinstance(node.ctx, ast.Store):
             yield node.id
+        elif isinstance(node, ast.ExceptHandler) and node.name:
+            yield node.name
         elif isinstance(node, ast.alias):
             yield node.asname or node.name
 
