@@ -87,7 +87,8 @@ class TestLikenesses(Case):
     def test_each_way_of_being_none(self):
         self.assertIs(is_likeness(one=PATH, two=PATH, mapping=TURN), True)
         for wrong in ({}, {"a": "d", "b": "c", "c": "b"}, {**TURN, "e": "e"}, {**TURN, "-": "-"}, {**TURN, "d": "d"},
-                      {**TURN, "a": "x"}, {"a": "a", "b": "c", "c": "b", "d": "d"}, {"w": "a", "x": "b"}):
+                      {**TURN, "a": "x"}, {"a": "a", "b": "c", "c": "b", "d": "d"}, {"w": "a", "x": "b"},
+                      {"w": "a", "x": "b", "y": "c", "z": "d"}, {"a": "a", "b": "b", "c": "c", "D": "d"}):
             self.assertIs(is_likeness(PATH, PATH, wrong), False, wrong)
         same = {place: place for place in "abcd"}
         self.assertIs(is_likeness(PATH, Web("abcd", PATH.ties + [("a", "c")]), same), False)

@@ -62,8 +62,9 @@ class TestCommands(ScriptCase):
         for row in ROWS:
             self.assertEqual(run_line(book=book, line=row), "ok")
         self.assertEqual(book, book_of(ROWS))
-        for line, answer in (("play g b", "refused 3 wrong"), ("web w a /", "refused 2 used"), ("web", "refused 2 form"),
-                             ("board new p ....", "refused 3 missing"), ("game new wrong dark", "refused 3 wrong"),
+        for line, answer in (("play g b", "refused 3 wrong"), ("web w a /", "refused 2 used"),
+                             ("web", "refused 2 form"), ("board new p ....", "refused 3 missing"),
+                             ("game new wrong dark", "refused 3 wrong"),
                              ("paper new p b stands b:a:c", "refused 5 wrong"), ("play g - -", "refused 4 form")):
             self.assertEqual(run_line(book, line), answer)
         self.assertEqual(book, book_of(ROWS))
@@ -131,8 +132,9 @@ class TestCommands(ScriptCase):
         book = book_of(ROWS)
         for most in (0, 1, 60):
             self.assertEqual(run_line(book, f"auto over {most}"), "played 0")
-        for line, answer in (("auto", "refused 2 form"), ("auto G", "refused 2 form"), ("auto p 1", "refused 2 missing"),
-                             ("auto z 61", "refused 2 missing"), ("auto g", "refused 3 form"),
+        for line, answer in (("auto", "refused 2 form"), ("auto G", "refused 2 form"),
+                             ("auto p 1", "refused 2 missing"), ("auto z 61", "refused 2 missing"),
+                             ("auto g", "refused 3 form"),
                              ("auto g 61", "refused 3 form"), ("auto g 00", "refused 3 form"),
                              ("auto g 01", "refused 3 form"), ("auto g x", "refused 3 form"),
                              ("auto g -1", "refused 3 form"), ("auto g ", "refused 3 form"),
@@ -148,8 +150,9 @@ class TestCommands(ScriptCase):
         self.assertEqual(list(book)[-1], f"play g {deed}")
         for most in (0, 1, 60):
             self.assertEqual(run_line(book, f"auto g {most}"), "played 0")
-        for line, answer in (("auto g 61", "refused 3 form"), ("auto g", "refused 3 form"), ("auto z 1", "refused 2 missing"),
-                             ("auto g 1 1", "refused 4 form"), ("auto", "refused 2 form")):
+        for line, answer in (("auto g 61", "refused 3 form"), ("auto g", "refused 3 form"),
+                             ("auto z 1", "refused 2 missing"), ("auto g 1 1", "refused 4 form"),
+                             ("auto", "refused 2 form")):
             self.assertEqual(run_line(book, line), answer)
         self.assertEqual(len(book), 60)
 
@@ -218,8 +221,8 @@ class TestScripts(ScriptCase):
 
     def test_a_script_is_its_lines(self):
         drawn = random.Random(21)
-        lines = ROWS + ["undo", "decide n1 p b", "decide n2 q b", "auto g 3", "auto h 60", "turn g", "show h", "score q",
-                        "sure empty", "standing p dark", "play g c", "play h -", "x", "", "undo x"]
+        lines = ROWS + ["undo", "decide n1 p b", "decide n2 q b", "auto g 3", "auto h 60", "turn g", "show h",
+                        "score q", "sure empty", "standing p dark", "play g c", "play h -", "x", "", "undo x"]
         for _ in range(60):
             script = ROWS[:drawn.randrange(len(ROWS) + 1)] + drawn.choices(lines, k=drawn.randrange(30))
             book = Book()

@@ -8,7 +8,7 @@ from helper import (TWO_COMBS, Case, drawn_boards, grid_web, other, path_web, pl
                     right_boards, ring_web, tree_web)
 from searching import PlainAttack
 from tworooms.boards import Board
-from tworooms.companies import company_names, free_neighbours
+from tworooms.companies import free_neighbours
 from tworooms.errors import BadNumber, NoHand, NoPlace, NoStone, NotRight, TooMany
 from tworooms.rounds import stands
 from tworooms.search import attack, attack_all, chase, passing_search
@@ -304,15 +304,6 @@ class TestAnswers(Case):
         self.assertEqual(attack_all(board=board, hand="dark"), [("a", "taken")])
         self.assertEqual(attack_all(Board(TWO, ".."), "dark"), [])
 
-    def test_the_greatest_searches_end_soon(self):
-        web = Web([letter + str(k) for letter in "abcd" for k in range(5)],
-                  [(f"{one}{k}", f"{two}{m}") for one, two in (("a", "b"), ("c", "d"), ("a", "d"))
-                   for k in range(5) for m in range(4)])
-        board = Board(web, "ddddd" + "." * 15)
-        for name in company_names(board, "dark"):
-            self.assertIn(attack(board, name, depth=12, budget=400)[0], ("kept", "open"))
-        self.assertEqual(len(attack_all(board, "dark", depth=12, budget=400)), 5)
-
 
 class TestErrors(Case):
     def test_the_order_of_the_errors(self):
@@ -340,6 +331,8 @@ class TestErrors(Case):
             self.refused(NoStone("a"), call, right, "a")
         self.refused(NotRight("a"), attack, wrong, "c", shield="c")
         self.refused(NotRight("a"), attack_all, wrong, "light")
+        # The hand need not have a company on the board.
+        self.refused(NotRight("a"), attack_all, Board(FOUR, "dddd"), "light")
         self.refused(NoStone("a"), attack, right, "a", shield="d")
         self.refused(NoStone("d"), attack, right, "b", shield="d")
         self.refused(NoStone("b"), attack, right, "b", shield="b")

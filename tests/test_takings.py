@@ -6,7 +6,7 @@ import unittest
 from helper import (Case, PlainRooms, boards_to_compare, drawn_boards, grid_web, other, path_web, plain_free, plain_lay,
                     plain_reached, plain_signs, right_boards, ring_web, tree_web)
 from tworooms.boards import Board, empty_board
-from tworooms.companies import company_names, company_of, free_neighbours, name_of
+from tworooms.companies import company_names, company_of, name_of
 from tworooms.errors import NoHand, NoPlace, NoStone, NotRight, Stands, TooMany
 from tworooms.games import Game
 from tworooms.laying import lay, lay_row

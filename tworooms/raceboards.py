@@ -70,7 +70,7 @@ def race_search(own, other, shared, *, budget=400):
     """The value of the race as two searches on its race board tell it, or `open`."""
     check_bounds(own, other, shared, MOST_SEARCHED)
     check_number("budget", budget, 1, MOST_BUDGET)
-    check_race(own, other, shared, MOST_SEARCHED)
+    # Numbers that are no race are told behind all bounds.
     board = race_board(own, other, shared)
     depth = 2 * (other + shared) - 1
     verdict, _, _ = attack(board, "l", first=DARK, depth=depth, budget=budget, shield="d")
